@@ -1,0 +1,1 @@
+"""Changing collections made from structures that can only be built once."""
