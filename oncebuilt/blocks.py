@@ -1,8 +1,8 @@
 """Collections of members in blocks that are built from a list."""
 
 from oncebuilt.asking import Asker, plan_answer
+from oncebuilt.building import Builder, plan_growth
 from oncebuilt.calls import Calls
-from oncebuilt.plans import block_sizes, exponent, lowest_power
 
 
 class Blocks:
@@ -11,8 +11,8 @@ class Blocks:
     NAME = "Blocks"
 
     def __init__(self, build, ask, join, *, zero=None):
-        self.build_call = build
         self.calls = Calls()
+        self.builder = Builder(self.calls, build)
         self.asker = Asker(self.calls, ask, join, zero)
         # These two lists are replaced, never changed: so versions and branches can share them.
         self.held = []
@@ -23,13 +23,8 @@ class Blocks:
         """Return a collection of the members of a list."""
         blocks = cls(build, ask, join, zero=zero)
         held = list(members)
-        parts = []
-        first = 0
-        for size in block_sizes(len(held)):
-            parts.append(built_part(blocks, held, first, size))
-            first += size
+        blocks.parts = blocks.builder.row(list(range(len(held))), held)
         blocks.held = held
-        blocks.parts = parts
         return blocks
 
     def add(self, member):
@@ -37,10 +32,7 @@ class Blocks:
         self.calls.check()
         number = len(self.held)
         held = self.held + [member]
-        first, size = last_block(number + 1)
-        part = built_part(self, held, first, size)
-        kept = len(self.parts) - exponent(number + 1)
-        self.parts = self.parts[:kept] + [part]
+        self.parts = self.builder.grown_row(self.parts, number, number, held)
         self.held = held
         return number
 
@@ -71,8 +63,8 @@ class Blocks:
     def plan_add(self):
         """Return what the next addition adds to the log."""
         self.calls.check()
-        first, size = last_block(len(self.held) + 1)
-        return [build_entry(first, size)]
+        many = len(self.held)
+        return plan_growth(self.parts, many, many)
 
     def plan_query(self):
         """Return what the next question adds to the log."""
@@ -93,7 +85,7 @@ class Blocks:
         """Return a new Blocks with the same members and blocks that changes independently."""
         self.calls.check()
         asker = self.asker
-        blocks = Blocks(self.build_call, asker.ask_call, asker.join_call, zero=asker.zero)
+        blocks = Blocks(self.builder.build_call, asker.ask_call, asker.join_call, zero=asker.zero)
         blocks.held = self.held
         blocks.parts = self.parts
         return blocks
@@ -144,21 +136,3 @@ class Version:
 
     def __repr__(self):
         return f"{self.NAME}({len(self.held)})"
-
-
-def last_block(many):
-    """Return the first number in the last block of this many members, at least one, and its size."""
-    size = lowest_power(many)
-    return (many - size, size)
-
-
-def build_entry(first, size):
-    """Return the log entry of a block of consecutive numbers."""
-    return ("build", tuple(range(first, first + size)))
-
-
-def built_part(blocks, held, first, size):
-    """Build a block of consecutive numbers, and return it as a part."""
-    entry = build_entry(first, size)
-    block = blocks.calls.run(entry, blocks.build_call, held[first:first + size])
-    return (entry[1], block)

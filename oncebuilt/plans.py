@@ -68,9 +68,14 @@ def greatest_power(number):
     return 1 << (number.bit_length() - 1)
 
 
-def check_number(value):
-    """Raise BadNumber unless the value is an integer from 0 to GREATEST."""
+def check_integer(value):
+    """Raise BadNumber unless the value is an integer."""
     if not isinstance(value, int) or isinstance(value, bool):
         raise BadNumber("an integer is needed")
+
+
+def check_number(value):
+    """Raise BadNumber unless the value is an integer from 0 to GREATEST."""
+    check_integer(value)
     if value < 0 or value > GREATEST:
         raise BadNumber("an integer from 0 to 10 ** 30 is needed")

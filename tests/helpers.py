@@ -1,19 +1,44 @@
 """Callables that watch how they are called, and a plain model of what the document says."""
 
+from collections import Counter
+
+from oncebuilt.errors import BadNumber, Busy, Empty, NoMember, NotTorn, Torn
+
 
 class Failure(Exception):
     """The error that a failing callable raises."""
 
 
+class OwnInterrupt(BaseException):
+    """An error that is not an Exception."""
+
+
+ERRORS = [
+    Failure("x"), ValueError("x"), KeyError("x"), IndexError("x"), LookupError("x"), StopIteration("x"),
+    RuntimeError("x"), TypeError("x"), AttributeError("x"), ZeroDivisionError("x"), AssertionError("x"),
+    RecursionError("x"), GeneratorExit("x"), Busy("x"), BadNumber("x"), NoMember("x"), Empty("x"), Torn("x"),
+    NotTorn("x"), OwnInterrupt("x"),
+]
+
+
 class Block:
-    """A structure that can only be built once."""
+    """A structure that can only be built once; it is spent when another one takes its place."""
 
     def __init__(self, members):
         self.members = tuple(members)
+        self.spent = False
+
+
+class Draft:
+    """A structure that takes members until it is sealed."""
+
+    def __init__(self):
+        self.members = []
+        self.sealed = False
 
 
 class Spy:
-    """build, ask and join of a structure; they write down their calls.
+    """The callables of a structure that is built once; they write down their calls.
 
     The answer to a question is the tuple of the pairs (question, member), so join is
     associative but not commutative. `hook(name, values)` runs in each call, after it was written
@@ -50,17 +75,103 @@ class Spy:
 
     def ask(self, *values):
         block, question = values
-        assert isinstance(block, Block)
+        assert isinstance(block, Block) and not block.spent
         self.watch("ask", values)
-        return tuple((question, member) for member in block.members)
+        return self.answer(block.members, question)
+
+    def answer(self, members, question):
+        return tuple((question, member) for member in members)
 
     def join(self, *values):
         one, other = values
         self.watch("join", values)
         return one + other
 
+    def begin(self, *values):
+        assert values == ()
+        self.watch("begin", values)
+        return Draft()
+
+    def put(self, *values):
+        draft, member = values
+        assert isinstance(draft, Draft) and not draft.sealed
+        self.watch("put", (tuple(draft.members), member))
+        draft.members.append(member)
+        return "ignored"
+
+    def seal(self, *values):
+        (draft,) = values
+        assert isinstance(draft, Draft) and not draft.sealed
+        self.watch("seal", (tuple(draft.members),))
+        draft.sealed = True
+        return Block(draft.members)
+
+    def drop(self, *values):
+        block, member = values
+        assert isinstance(block, Block) and not block.spent
+        at = [one is member for one in block.members].index(True)
+        assert len(block.members) > 1
+        self.watch("drop", (block.members, member))
+        block.spent = True
+        return Block(block.members[:at] + block.members[at + 1:])
+
     def names(self):
         return [name for name, values in self.calls]
+
+
+class BagSpy(Spy):
+    """Its answers count the pairs (question, member), so join is commutative, and unjoin undoes it."""
+
+    def answer(self, members, question):
+        return Counter((question, member) for member in members)
+
+    def unjoin(self, *values):
+        one, other = values
+        # What is taken away must have been joined before.
+        assert other <= one
+        self.watch("unjoin", values)
+        return one - other
+
+
+class OuterSpy(Spy):
+    """push, pop and ask of a structure that undoes its last insertion.
+
+    The answer to a question does not depend on the order of the members. If `late` is true, a
+    push or pop that raises an error has changed the structure before.
+    """
+
+    def __init__(self):
+        Spy.__init__(self)
+        self.inside = []
+        self.late = False
+
+    def push(self, *values):
+        (member,) = values
+        if self.late:
+            self.inside.append(member)
+            self.watch("push", values)
+        else:
+            self.watch("push", values)
+            self.inside.append(member)
+        return "ignored"
+
+    def pop(self, *values):
+        assert values == () and len(self.inside) > 0
+        if self.late:
+            member = self.inside.pop()
+            self.watch("pop", values)
+        else:
+            self.watch("pop", values)
+            member = self.inside.pop()
+        return member
+
+    def ask(self, *values):
+        (question,) = values
+        self.watch("ask", values)
+        return self.answer(self.inside, question)
+
+    def answer(self, members, question):
+        return (question, tuple(sorted([id(member) for member in members])))
 
 
 def expected_answer(members, question):
@@ -130,3 +241,21 @@ def every_number(longest):
         found.extend([size - 1, size, size + 1])
         size *= 2
     return [many for many in found if many <= longest]
+
+
+def errors_of(calls):
+    """The class of the error that each call raises, None if it raises none."""
+    found = []
+    for call in calls:
+        try:
+            call()
+        except Exception as error:
+            found.append(type(error))
+        else:
+            found.append(None)
+    return found
+
+
+def readings(blocks):
+    """What can be read while a callable runs."""
+    return (blocks.members(), list(blocks.pairs()), len(blocks), repr(blocks), bool(blocks), blocks.NAME)

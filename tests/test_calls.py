@@ -3,19 +3,8 @@
 import unittest
 
 from oncebuilt.blocks import Blocks, Version
-from oncebuilt.errors import BadNumber, Busy, NoMember
-from tests.helpers import Failure, Model, Spy, every_number, expected_answer
-
-
-class OwnInterrupt(BaseException):
-    """An error that is not an Exception."""
-
-
-ERRORS = [
-    Failure("x"), ValueError("x"), KeyError("x"), IndexError("x"), LookupError("x"), StopIteration("x"),
-    RuntimeError("x"), TypeError("x"), AttributeError("x"), ZeroDivisionError("x"), AssertionError("x"),
-    RecursionError("x"), GeneratorExit("x"), Busy("x"), BadNumber("x"), NoMember("x"), OwnInterrupt("x"),
-]
+from oncebuilt.errors import Busy
+from tests.helpers import ERRORS, Failure, Model, Spy, errors_of, every_number, expected_answer, readings
 
 
 def of_many(spy, many):
@@ -44,24 +33,6 @@ def refused_calls(blocks):
         lambda: blocks.version(),
         lambda: blocks.branch(),
     ]
-
-
-def errors_of(calls):
-    """The class of the error that each call raises, None if it raises none."""
-    found = []
-    for call in calls:
-        try:
-            call()
-        except Exception as error:
-            found.append(type(error))
-        else:
-            found.append(None)
-    return found
-
-
-def readings(blocks):
-    """What can be read while a callable runs."""
-    return (blocks.members(), list(blocks.pairs()), len(blocks), repr(blocks), bool(blocks), blocks.NAME)
 
 
 def whole_state(blocks):
