@@ -27,7 +27,7 @@ class Ranked:
         held = {**self.held, number: member}
         self.outer.change([("push", number)], held)
         self.held = held
-        self.ranks = {**self.ranks, number: rank}
+        self.ranks = {**self.ranks, number: int(rank)}
         self.given = number + 1
         return number
 

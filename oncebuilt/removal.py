@@ -42,14 +42,15 @@ class Cancelling:
     def remove(self, number):
         """Remove the member with this number."""
         self.calls.check()
-        held = without(self.held, number)
+        gone = present_number(self.held, number)
+        held = without(self.held, gone)
         if is_rebuilt(len(self.known), len(held)):
             self.parts = self.builder.row(list(held), held, PRESENT_ROW)
             self.removed_parts = []
             self.known = held
         else:
             many = count_removed(self)
-            self.removed_parts = self.builder.grown_row(self.removed_parts, many, number, self.known, REMOVED_ROW)
+            self.removed_parts = self.builder.grown_row(self.removed_parts, many, gone, self.known, REMOVED_ROW)
         self.held = held
 
     def query(self, question):
@@ -83,10 +84,11 @@ class Cancelling:
     def plan_remove(self, number):
         """Return what the removal of the member with this number adds to the log."""
         self.calls.check()
-        held = without(self.held, number)
+        gone = present_number(self.held, number)
+        held = without(self.held, gone)
         if is_rebuilt(len(self.known), len(held)):
             return plan_row(list(held), PRESENT_ROW)
-        return plan_growth(self.removed_parts, count_removed(self), number, REMOVED_ROW)
+        return plan_growth(self.removed_parts, count_removed(self), gone, REMOVED_ROW)
 
     def plan_query(self):
         """Return what the next question adds to the log."""
@@ -139,12 +141,13 @@ class Dropping:
     def remove(self, number):
         """Remove the member with this number."""
         self.calls.check()
-        held = without(self.held, number)
+        gone = present_number(self.held, number)
+        held = without(self.held, gone)
         if is_rebuilt(self.added, len(held)):
             self.parts = self.builder.row(list(held), held)
             self.added = len(held)
         else:
-            self.parts = dropped_parts(self, number)
+            self.parts = dropped_parts(self, gone)
         self.held = held
 
     def query(self, question):
@@ -174,11 +177,12 @@ class Dropping:
     def plan_remove(self, number):
         """Return what the removal of the member with this number adds to the log."""
         self.calls.check()
-        held = without(self.held, number)
+        gone = present_number(self.held, number)
+        held = without(self.held, gone)
         if is_rebuilt(self.added, len(held)):
             return plan_row(list(held))
-        numbers = self.parts[place_of(self.parts, number)][0]
-        return plan_drop(numbers, number)
+        numbers = self.parts[place_of(self.parts, gone)][0]
+        return plan_drop(numbers, gone)
 
     def plan_query(self):
         """Return what the next question adds to the log."""
@@ -196,11 +200,16 @@ class Dropping:
         return f"{self.NAME}({len(self.held)})"
 
 
-def without(held, number):
-    """Return the held members but for one; raise NoMember if the number is not that of a held member."""
+def present_number(held, number):
+    """Return the number as a plain integer; raise NoMember if it is not that of a held member."""
     # Any object may be passed, so it is not looked up before it is known to be an integer.
-    if not isinstance(number, int) or isinstance(number, bool) or number not in held:
+    if not isinstance(number, int) or isinstance(number, bool) or int(number) not in held:
         raise NoMember(number)
+    return int(number)
+
+
+def without(held, number):
+    """Return the held members but for the one with this number."""
     return {one: member for one, member in held.items() if one != number}
 
 

@@ -23,7 +23,9 @@ class Steady:
         """Work on the merges, then add the member, and return its number."""
         self.calls.check()
         number = len(self.held)
-        for level in merging_levels(self.rows):
+        # The work changes the levels, so these are found before it begins.
+        merging = merging_levels(self.rows)
+        for level in merging:
             work_on_merge(self, level)
         draft = begin_draft(self, 0)
         put_into(self, draft, 0, number, member)

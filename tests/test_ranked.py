@@ -279,6 +279,14 @@ class WrongRanks(unittest.TestCase):
                 self.assertEqual((ranked.log(), len(ranked), len(spy.calls)), (log, many, calls))
             self.assertEqual(ranked.add("x", rank=5), many)
 
+    def test_an_integer_of_a_class_of_its_own(self):
+        class Own(int):
+            pass
+
+        ranked = queue_of(OuterSpy(), 1)
+        self.assertEqual([ranked.add("x", rank=Own(rank)) for rank in (-1, 2, 1)], [1, 2, 3])
+        self.assertEqual([ranked.remove_first() for _ in range(4)], [2, 3, 0, 1])
+
     def test_it_is_a_value_error(self):
         with self.assertRaises(ValueError):
             queue_of(OuterSpy(), 0).add("x", rank="1")

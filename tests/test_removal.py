@@ -405,6 +405,22 @@ class WrongNumbers(unittest.TestCase):
             self.assertEqual(collection.add("b"), 1)
             self.assertIsNone(collection.remove(1))
 
+    def test_an_integer_of_a_class_of_its_own(self):
+        class Own(int):
+            pass
+
+        for kind in KINDS:
+            for number in range(5):
+                spy, collection, model = kind.fresh()
+                for one in range(5):
+                    collection.add(f"m{one}")
+                planned = collection.plan_remove(number)
+                self.assertEqual(collection.plan_remove(Own(number)), planned)
+                self.assertIsNone(collection.remove(Own(number)))
+                self.assertEqual(collection.numbers(), [one for one in range(5) if one != number])
+                self.check(kind, collection, Own(number))
+                self.check(kind, collection, Own(5))
+
     def test_it_is_a_lookup_error(self):
         for kind in KINDS:
             spy, collection, model = kind.fresh()
