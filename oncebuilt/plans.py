@@ -68,9 +68,14 @@ def greatest_power(number):
     return 1 << (number.bit_length() - 1)
 
 
+def is_integer(value):
+    """Tell whether the value is an integer, which a boolean is not."""
+    return isinstance(value, int) and not isinstance(value, bool)
+
+
 def check_integer(value):
     """Raise BadNumber unless the value is an integer."""
-    if not isinstance(value, int) or isinstance(value, bool):
+    if not is_integer(value):
         raise BadNumber("an integer is needed")
 
 

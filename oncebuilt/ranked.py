@@ -1,6 +1,6 @@
 """Collections over an outer structure whose members are removed in the order of their ranks."""
 
-from oncebuilt.errors import Empty
+from oncebuilt.held import check_filled, without
 from oncebuilt.outer import Outer, plan_pops, plan_pushes
 from oncebuilt.plans import check_integer, lowest_power
 
@@ -34,17 +34,17 @@ class Ranked:
     def first(self):
         """Return the number of the member that precedes all others."""
         self.outer.check()
-        check_filled(self)
+        check_filled(self.held)
         return precedence(self)[0]
 
     def remove_first(self):
         """Remove the member that precedes all others, and return its number."""
         self.outer.check()
-        check_filled(self)
+        check_filled(self.held)
         number = precedence(self)[0]
         self.outer.change(plan_removal(self), self.held)
-        self.held = {one: member for one, member in self.held.items() if one != number}
-        self.ranks = {one: rank for one, rank in self.ranks.items() if one != number}
+        self.held = without(self.held, [number])
+        self.ranks = without(self.ranks, [number])
         self.removals += 1
         if len(self.held) == 0:
             self.removals = 0
@@ -82,7 +82,7 @@ class Ranked:
     def plan_remove(self):
         """Return what the next removal adds to the log."""
         self.outer.check()
-        check_filled(self)
+        check_filled(self.held)
         return plan_removal(self)
 
     def log(self):
@@ -103,12 +103,6 @@ class Ranked:
 
     def __repr__(self):
         return f"{self.NAME}({len(self.held)})"
-
-
-def check_filled(ranked):
-    """Raise Empty without members."""
-    if len(ranked.held) == 0:
-        raise Empty("there is no member")
 
 
 def precedence(ranked):

@@ -4,6 +4,8 @@ from oncebuilt.asking import Asker, plan_answer
 from oncebuilt.building import Builder, plan_growth, plan_row
 from oncebuilt.calls import Calls
 from oncebuilt.errors import NoMember
+from oncebuilt.held import without
+from oncebuilt.plans import is_integer
 
 # The marks of the two rows of a Cancelling in its log.
 PRESENT_ROW = (0,)
@@ -43,7 +45,7 @@ class Cancelling:
         """Remove the member with this number."""
         self.calls.check()
         gone = present_number(self.held, number)
-        held = without(self.held, gone)
+        held = without(self.held, [gone])
         if is_rebuilt(len(self.known), len(held)):
             self.parts = self.builder.row(list(held), held, PRESENT_ROW)
             self.removed_parts = []
@@ -85,7 +87,7 @@ class Cancelling:
         """Return what the removal of the member with this number adds to the log."""
         self.calls.check()
         gone = present_number(self.held, number)
-        held = without(self.held, gone)
+        held = without(self.held, [gone])
         if is_rebuilt(len(self.known), len(held)):
             return plan_row(list(held), PRESENT_ROW)
         return plan_growth(self.removed_parts, count_removed(self), gone, REMOVED_ROW)
@@ -142,7 +144,7 @@ class Dropping:
         """Remove the member with this number."""
         self.calls.check()
         gone = present_number(self.held, number)
-        held = without(self.held, gone)
+        held = without(self.held, [gone])
         if is_rebuilt(self.added, len(held)):
             self.parts = self.builder.row(list(held), held)
             self.added = len(held)
@@ -178,7 +180,7 @@ class Dropping:
         """Return what the removal of the member with this number adds to the log."""
         self.calls.check()
         gone = present_number(self.held, number)
-        held = without(self.held, gone)
+        held = without(self.held, [gone])
         if is_rebuilt(self.added, len(held)):
             return plan_row(list(held))
         numbers = self.parts[place_of(self.parts, gone)][0]
@@ -203,14 +205,9 @@ class Dropping:
 def present_number(held, number):
     """Return the number as a plain integer; raise NoMember if it is not that of a held member."""
     # Any object may be passed, so it is not looked up before it is known to be an integer.
-    if not isinstance(number, int) or isinstance(number, bool) or int(number) not in held:
+    if not is_integer(number) or int(number) not in held:
         raise NoMember(number)
     return int(number)
-
-
-def without(held, number):
-    """Return the held members but for the one with this number."""
-    return {one: member for one, member in held.items() if one != number}
 
 
 def is_rebuilt(added, present):

@@ -174,6 +174,13 @@ class OuterSpy(Spy):
         return (question, tuple(sorted([id(member) for member in members])))
 
 
+class SumSpy(Spy):
+    """join of members that are strings themselves."""
+
+    def answer(self, members, question):
+        return "".join(members)
+
+
 def expected_answer(members, question):
     return tuple((question, member) for member in members)
 

@@ -5,6 +5,7 @@ import types
 import unittest
 
 from oncebuilt.errors import Busy, Empty
+from tests.checks import AnyCollection
 from tests.helpers import ERRORS, Failure, Spy, Untouchable, errors_of, readings, same_objects
 from tests.kinds import KINDS, replayed, some_history, some_operation
 
@@ -38,32 +39,6 @@ def cases():
                 model.advance(operation)
             for operation in some_operations(kind, model):
                 yield kind, history, operation
-
-
-class AnyCollection(unittest.TestCase):
-    def check_state(self, collection, model):
-        """Compare what can be read at any time, and the length, with the model."""
-        pairs = list(model.present.items())
-        self.assertEqual(collection.members(), model.members())
-        self.assertEqual(list(collection.pairs()), pairs)
-        self.assertEqual(len(collection), len(pairs))
-        self.assertEqual(bool(collection), len(pairs) > 0)
-        name = type(collection).__name__
-        self.assertEqual((repr(collection), str(collection)), (f"{name}({len(pairs)})",) * 2)
-        self.assertEqual((collection.NAME, type(collection).NAME), (name, name))
-
-    def check_operation(self, kind, spy, collection, model, operation):
-        """Do an operation; its result, its plan, its calls and its effect are those of the model."""
-        log, calls = collection.log(), len(spy.calls)
-        planned = model.plan(operation)
-        self.assertEqual(kind.plan(collection, operation), planned, operation)
-        self.assertEqual((collection.log(), len(spy.calls)), (log, calls))
-        expected = kind.result(spy, model, operation)
-        self.assertEqual(kind.apply(collection, operation), expected, operation)
-        model.advance(operation)
-        self.assertEqual(collection.log(), log + planned, operation)
-        self.assertEqual(spy.names()[calls:], [entry[0] for entry in planned])
-        self.check_state(collection, model)
 
 
 class Histories(AnyCollection):
@@ -113,7 +88,7 @@ class Histories(AnyCollection):
         for kind in KINDS:
             spy, collection, model = kind.fresh()
             for number in range(9):
-                found = collection.add(None)
+                found = kind.apply(collection, ("add", f"m{number}", 0))
                 self.assertIs(type(found), int)
                 self.assertEqual(found, number)
 
@@ -169,7 +144,7 @@ class WhileACallableRuns(AnyCollection):
                 def hook(name, values):
                     if len(spy.calls) - calls == at + 1:
                         spy.hook = None
-                        collection.query("q")
+                        kind.apply(collection, ("query", "q"))
 
                 spy.hook = hook
                 with self.assertRaises(Busy):
@@ -209,7 +184,7 @@ class WhileACallableRuns(AnyCollection):
                     self.check_operation(other_kind, other_spy, other, other_model, operation)
                     self.check_operation(other_kind, other_spy, other, other_model, ("query", name))
                     with self.assertRaises(Busy):
-                        collection.query("q")
+                        kind.apply(collection, ("query", "q"))
 
                 for operation in (("add", "c", 0), ("query", "q")):
                     log, planned = collection.log(), model.plan(operation)
@@ -235,7 +210,7 @@ class WhileACallableRuns(AnyCollection):
                     self.assertEqual(next(kept[0]), (0, "a"))
 
             spy.hook = hook
-            collection.add("d")
+            kind.apply(collection, ("add", "d", 0))
             spy.hook = None
             self.assertEqual(found, [([(1, "b"), (2, "c")], [(0, "a"), (1, "b"), (2, "c")])])
             self.assertEqual(list(kept[0]), [(1, "b"), (2, "c")])
@@ -447,7 +422,7 @@ class AnyObjects(AnyCollection):
                 self.assertEqual(len(collection), len(present))
                 self.assertEqual(repr(collection), f"{collection.NAME}({len(present)})")
                 log, planned = collection.log(), model.plan(("query", "q"))
-                answer = collection.query(Untouchable())
+                answer = kind.apply(collection, ("query", Untouchable()))
                 if planned:
                     self.assertIsInstance(answer, Untouchable)
                 self.assertEqual(collection.log(), log + planned)
@@ -521,17 +496,16 @@ class WithoutMembers(AnyCollection):
                 continue
             for zero in (Untouchable(), [], 0, "", None):
                 spy, collection, model = kind.fresh(zero=zero)
-                self.assertEqual(collection.plan_query(), [])
-                self.assertIs(collection.query("q"), zero)
+                self.assertEqual(kind.plan(collection, ("query", "q")), [])
+                self.assertIs(kind.apply(collection, ("query", "q")), zero)
                 self.assertEqual((spy.calls, collection.log()), ([], []))
-                collection.add("a")
-                self.assertEqual(collection.query("q"), spy.answer(["a"], "q"))
-                model.advance(("add", "a", 0))
+                self.check_operation(kind, spy, collection, model, ("add", "a", 0))
+                self.check_operation(kind, spy, collection, model, ("query", "q"))
                 if kind.removable(model):
-                    collection.remove(0)
+                    self.check_operation(kind, spy, collection, model, ("remove", 0))
                     calls = len(spy.calls)
-                    self.assertEqual(collection.plan_query(), [])
-                    self.assertIs(collection.query("q"), zero)
+                    self.assertEqual(kind.plan(collection, ("query", "q")), [])
+                    self.assertIs(kind.apply(collection, ("query", "q")), zero)
                     self.assertEqual(len(spy.calls), calls)
 
     def test_zero_is_never_joined(self):
@@ -540,9 +514,8 @@ class WithoutMembers(AnyCollection):
                 continue
             spy, collection, model = kind.fresh(zero=Untouchable())
             for number in range(9):
-                collection.add(f"m{number}")
-                model.advance(("add", f"m{number}", 0))
-                self.assertEqual(collection.query("q"), spy.answer(model.members(), "q"))
+                self.check_operation(kind, spy, collection, model, ("add", f"m{number}", 0))
+                self.check_operation(kind, spy, collection, model, ("query", "q"))
 
     def test_length_and_truth(self):
         for kind in KINDS:
@@ -556,9 +529,10 @@ class WithoutMembers(AnyCollection):
             spy, collection, model = kind.fresh()
             for read in kind.readers(collection):
                 read()
-            if kind.outer:
+            for name in kind.empty:
                 with self.assertRaises(Empty):
-                    collection.plan_remove()
+                    getattr(collection, name)()
+            self.assertEqual((spy.calls, collection.log()), ([], []))
 
 
 if __name__ == "__main__":
